@@ -1,0 +1,1 @@
+"""Pressluck: games against dice, played best."""

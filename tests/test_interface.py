@@ -1,0 +1,51 @@
+import importlib
+import inspect
+import unittest
+
+FUNCTIONS = {
+    "pressluck.shares": {
+        "is_whole": ["thing"],
+        "share": ["top", "bottom"],
+        "plus": ["one", "other"],
+        "minus": ["one", "other"],
+        "times": ["one", "other"],
+        "over": ["one", "other"],
+        "under": ["one", "other"],
+        "show_share": ["one"],
+        "read_share": ["text"],
+    },
+    "pressluck.tables": {
+        "table_of": ["rows"],
+        "added": ["one", "other"],
+        "mean": ["table"],
+        "share_from": ["table", "number"],
+    },
+}
+CLASSES = {
+    "pressluck.errors": [
+        "LuckError", "NoShare", "NoTable", "NoPool", "NoEnd", "TooMany",
+        "NoGame", "NoWay", "NoRule", "NoStep", "NoPlay", "NoRow",
+    ],
+}
+
+
+class TestInterface(unittest.TestCase):
+    def test_functions_stand_in_their_modules_with_their_arguments(self):
+        for module, functions in FUNCTIONS.items():
+            for name, arguments in functions.items():
+                with self.subTest(module=module, name=name):
+                    function = getattr(importlib.import_module(module), name)
+                    self.assertEqual(list(inspect.signature(function).parameters), arguments)
+                    self.assertEqual(function.__module__, module)
+
+    def test_classes_stand_in_their_modules(self):
+        for module, names in CLASSES.items():
+            for name in names:
+                with self.subTest(module=module, name=name):
+                    kind = getattr(importlib.import_module(module), name)
+                    self.assertTrue(inspect.isclass(kind))
+                    self.assertEqual(kind.__module__, module)
+
+
+if __name__ == "__main__":
+    unittest.main()
