@@ -20,6 +20,14 @@ FUNCTIONS = {
         "mean": ["table"],
         "share_from": ["table", "number"],
     },
+    "pressluck.pools": {"throws": ["pool"], "pool_table": ["pool"]},
+    "pressluck.pooltexts": {"read_pool": ["text"], "show_pool": ["pool"]},
+    "pressluck.ends": {"levels": ["board"], "ring": ["board"], "stays": ["board"]},
+    "pressluck.parts": {
+        "reached": ["board", "start"],
+        "way_to": ["board", "start", "goal"],
+        "parts": ["board"],
+    },
 }
 CLASSES = {
     "pressluck.errors": [
