@@ -50,6 +50,14 @@ def under(one, other):
     return one[0] * other[1] < other[0] * one[1]
 
 
+# The least bottom that all the shares can be written over.
+def common_bottom(several):
+    common = 1
+    for one in several:
+        common = common // common_divisor(common, one[1]) * one[1]
+    return common
+
+
 def show_share(one):
     if one[1] == 1:
         return str(one[0])

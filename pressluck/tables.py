@@ -1,7 +1,7 @@
 """Tables: whole values, each with the share of the throws that bring it."""
 
 from pressluck.errors import NoTable
-from pressluck.shares import common_divisor, share
+from pressluck.shares import common_bottom, share
 
 
 # Weights over one bottom are summed as whole numbers, so that each share is brought to lowest terms just once.
@@ -21,12 +21,8 @@ def table_of(rows):
     return table_by_weights(weights, sum(weights.values()))
 
 
-def common_bottom(table):
-    common = 1
-    for row in table:
-        bottom = row[1][1]
-        common = common // common_divisor(common, bottom) * bottom
-    return common
+def bottom_of(table):
+    return common_bottom([part for value, part in table])
 
 
 def weighed(table, bottom):
@@ -34,8 +30,8 @@ def weighed(table, bottom):
 
 
 def added(one, other):
-    first_bottom = common_bottom(one)
-    second_bottom = common_bottom(other)
+    first_bottom = bottom_of(one)
+    second_bottom = bottom_of(other)
     second_rows = weighed(other, second_bottom)
     weights = {}
     for first, first_weight in weighed(one, first_bottom):
@@ -46,10 +42,10 @@ def added(one, other):
 
 
 def mean(table):
-    bottom = common_bottom(table)
+    bottom = bottom_of(table)
     return share(sum([value * weight for value, weight in weighed(table, bottom)]), bottom)
 
 
 def share_from(table, number):
-    bottom = common_bottom(table)
+    bottom = bottom_of(table)
     return share(sum([weight for value, weight in weighed(table, bottom) if value >= number]), bottom)

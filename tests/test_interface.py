@@ -28,6 +28,9 @@ FUNCTIONS = {
         "way_to": ["board", "start", "goal"],
         "parts": ["board"],
     },
+    "pressluck.lines": {"solved": ["rows", "right"]},
+    "pressluck.worths": {"worths_of": ["board", "picks"], "visits": ["board", "picks", "start"]},
+    "pressluck.best": {"best": ["board"]},
 }
 CLASSES = {
     "pressluck.errors": [

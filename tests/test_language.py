@@ -23,6 +23,10 @@ DUNDERS = "__init__ __eq__ __repr__ __str__ __len__".split()
 UNUSED = """register mro elements open input version_info with_traceback add_note attrgetter breakpoint builtins compile
 copyright credits delattr dir eval exec exit gc getattr globals hasattr help id importlib license locals methodcaller os
 quit setattr super vars sys""".split()
+WALKERS = "list tuple dict sorted sum any all enumerate zip min max".split()
+CHANGES = "append clear extend insert pop remove reverse setdefault update".split()
+KEYWORDS = {"sorted": ("key", "reverse"), "min": ("key", "default"), "max": ("key", "default"), "sum": ("start",),
+            "enumerate": ("start",), "zip": ("strict",)}
 WORDS = """type typing typing_extensions enum Enum IntEnum StrEnum Flag IntFlag Generic Protocol ABC ABCMeta namedtuple
 NamedTuple TypedDict TYPE_CHECKING abstractmethod""".split()
 
@@ -128,6 +132,51 @@ class TestForms(unittest.TestCase):
         for name, node in nodes(ast.Compare):
             if any(isinstance(op, (ast.Is, ast.IsNot)) for op in node.ops):
                 self.assertIn(getattr(node.comparators[0], "value", "else"), (None, True, False), name)
+
+
+class TestWalks(unittest.TestCase):
+    def walked(self, tree):
+        """What is walked on the spot: behind an in, as the first thing of a call that walks it, in a join."""
+        found = []
+        for node in ast.walk(tree):
+            if isinstance(node, (ast.For, ast.comprehension)):
+                found.append(node.iter)
+            if isinstance(node, ast.Call) and isinstance(node.func, ast.Name) and node.func.id in WALKERS:
+                found.extend(node.args[:1])
+            if isinstance(node, ast.Call) and isinstance(node.func, ast.Attribute) and node.func.attr == "join":
+                found.extend(node.args)
+        return found
+
+    def test_what_is_made_to_be_walked_is_walked_on_the_spot(self):
+        for name, tree in trees():
+            walked = self.walked(tree)
+            for node in ast.walk(tree):
+                if isinstance(node, ast.Call):
+                    called = getattr(node.func, "id", getattr(node.func, "attr", None))
+                    if called in ("zip", "enumerate", "reversed", "range", "items", "keys", "values"):
+                        self.assertIn(node, walked, f"{name}:{node.lineno}")
+
+    def test_what_a_loop_walks_is_not_changed_in_it(self):
+        for name, loop in nodes(ast.For):
+            inner = [node.id for node in ast.walk(loop.iter) if isinstance(node, ast.Name)]
+            for node in [node for row in loop.body for node in ast.walk(row)]:
+                if isinstance(node, ast.Call) and isinstance(node.func, ast.Attribute) and node.func.attr in CHANGES:
+                    self.assertNotIn(getattr(node.func.value, "id", None), inner, f"{name}:{node.lineno}")
+                if isinstance(node, ast.Subscript) and isinstance(node.ctx, ast.Store):
+                    self.assertNotIn(getattr(node.value, "id", None), inner, f"{name}:{node.lineno}")
+
+    def test_sets_and_keywords(self):
+        for name, node in nodes(ast.Call):
+            called = getattr(node.func, "id", None)
+            self.assertNotIn(called, ("set", "frozenset"), f"{name}:{node.lineno}")
+            for keyword in node.keywords:
+                self.assertIn(keyword.arg, KEYWORDS.get(called, ()), f"{name}:{node.lineno}")
+
+    def test_lists_and_dicts_of_a_top_hold_none_themselves(self):
+        for name, tree in trees():
+            for row in [row for row in tree.body if isinstance(row, ast.Assign)]:
+                inner = [node for node in ast.walk(row.value) if isinstance(node, (ast.List, ast.Dict, ast.Set))]
+                self.assertLessEqual(len(inner), 1, f"{name}:{row.lineno}")
 
 
 class TestNames(unittest.TestCase):
