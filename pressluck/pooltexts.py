@@ -1,7 +1,7 @@
 """Pools of dice as texts."""
 
 from pressluck.errors import NoPool
-from pressluck.shares import is_figures
+from pressluck.shares import whole_in
 
 MOST_PARTS = 4
 MOST_NUMBER = 99
@@ -32,13 +32,9 @@ def show_pool(pool):
 
 
 def read_number(text, least, most):
-    if not is_figures(text):
-        raise NoPool("where a number is due there is none")
-    number = int(text)
-    if str(number) != text:
-        raise NoPool("a number has a 0 ahead")
-    if number < least or number > most:
-        raise NoPool("a number is too small or too great")
+    number = whole_in(text, least, most)
+    if number is None:
+        raise NoPool("where a number is due there is none, or one too small or too great")
     return number
 
 

@@ -69,6 +69,14 @@ def is_figures(text):
     return 1 <= len(text) <= MOST_FIGURES and all([sign in FIGURES for sign in text])
 
 
+# None where the text writes no such number; a 0 ahead is none of the written forms.
+def whole_in(text, least, most):
+    if not is_figures(text):
+        return None
+    number = int(text)
+    return number if str(number) == text and least <= number <= most else None
+
+
 def read_share(text):
     if not isinstance(text, str):
         raise NoShare("a share is read from a text alone")

@@ -80,10 +80,13 @@ def gain_of(place):
     return (0, 1) if place[0] == "pick" else place[1]
 
 
+def book_of(several):
+    bottom = common_bottom(several)
+    return Book([one[0] * (bottom // one[1]) for one in several], bottom)
+
+
 def gains_of(board):
-    gains = [gain_of(place) for place in board]
-    bottom = common_bottom(gains)
-    return Book([gain[0] * (bottom // gain[1]) for gain in gains], bottom)
+    return book_of([gain_of(place) for place in board])
 
 
 def blank_worths(gains):

@@ -1,7 +1,25 @@
-"""Boards for the tests, and plain ways to look at them that owe nothing to the program."""
+"""Boards and games for the tests, and plain ways to look at them that owe nothing to the program."""
 
 import itertools
 from fractions import Fraction
+
+# Most of them are words that the rows of a game are written with.
+NAMES = """go if from end place set plus face move way count throw pick ask score pay to else below of best worst hits
+again burst d a z ok none rule game say back play points worth even ring good worse abcdefgh zzzzzzzz turn bank keep
+roll""".split()
+# Each pool with its values and their weights, reckoned by hand.
+POOLS = [
+    ([("number", 3)], {3: 1}),
+    ([("dice", 1, 2)], {1: 1, 2: 1}),
+    ([("dice", 1, 6)], {1: 1, 2: 1, 3: 1, 4: 1, 5: 1, 6: 1}),
+    ([("dice", 2, 2)], {2: 1, 3: 2, 4: 1}),
+    ([("hits", 2, 2, 3)], {0: 1, 1: 4, 2: 4}),
+    ([("best", 1, 2, 3)], {1: 1, 2: 3, 3: 5}),
+    ([("again", 1, 2)], {1: 1, 2: 3}),
+    ([("burst", 1, 3), ("number", 0)], {1: 3, 2: 3, 4: 1, 5: 1, 6: 1}),
+    ([("worst", 1, 2, 2), ("number", 9)], {10: 3, 11: 1}),
+    ([("hits", 3, 1, 4), ("hits", 20, 1, 20)], {0: 19, 1: 20, 2: 1}),
+]
 
 
 def as_share(number):
@@ -109,3 +127,139 @@ def all_picks(board, who=(1, 2), kept=None):
 
 def some_picks(source, board):
     return [source.randrange(len(place[2])) if place[0] == "pick" else None for place in board]
+
+
+def some_when(source, counts):
+    if not counts or source.random() < 0.4:
+        return None
+    return (source.choice(counts)[0], source.choice(("from", "below")), source.choice((0, 1, 1, 2, 3, 999)))
+
+
+def some_deeds(source, counts, thrown):
+    deeds = []
+    for turn in range(source.choice((0, 1, 1, 2, 3, 6)) if counts else 0):
+        names = [name for name, greatest in counts]
+        kind = source.choice(("set", "plus", "plus", "plus", "move", "face", "face"))
+        if kind == "face" and thrown:
+            deeds.append(("face", source.choice(names)))
+        elif kind == "move" and len(names) > 1:
+            deeds.append(("move",) + tuple(source.sample(names, 2)))
+        elif kind in ("set", "plus"):
+            deeds.append((kind, source.choice(names), source.choice((0, 1, 1, 1, 2, 3, 999))))
+    return deeds
+
+
+def some_throw(source, counts, names):
+    pool, weights = source.choice(POOLS)
+    values = sorted(weights)
+    rows = []
+    while values:
+        taken = source.randint(1, len(values))
+        rows.append((values[0], values[taken - 1], some_deeds(source, counts, True), source.choice(names)))
+        values = values[taken:]
+    if source.random() < 0.3:
+        rows.append((500, source.randint(500, 999), some_deeds(source, counts, True), source.choice(names)))
+    source.shuffle(rows)
+    return ("throw", list(pool), some_share(source), rows)
+
+
+def some_pick(source, counts, names, shut):
+    rows = []
+    for word in source.sample(NAMES, source.choice((1, 2, 2, 3, 4))):
+        rows.append((word, some_when(source, counts), some_deeds(source, counts, False), source.choice(names)))
+    if not shut:
+        rows[-1] = (rows[-1][0], None) + rows[-1][2:]
+        source.shuffle(rows)
+    return ("pick", source.choice((1, 2)), rows)
+
+
+def some_game(source, counts=2, size=6, most=3, shut=True):
+    """Any game; often it goes round for ever, and where shut is told it may come to picks without an open way."""
+    counts = [(name, source.randint(1, most)) for name in source.sample(NAMES, counts)]
+    names = source.sample(NAMES, size)
+    places = []
+    for number, name in enumerate(names):
+        kind = source.choice(("end", "score", "throw", "throw", "throw", "pick", "pick", "pick", "ask")[2 * (number == 0):])
+        what = ("end", some_share(source))
+        if kind == "score" and counts:
+            what = ("score", source.choice(counts)[0])
+        elif kind == "throw":
+            what = some_throw(source, counts, names)
+        elif kind == "pick":
+            what = some_pick(source, counts, names, shut)
+        elif kind == "ask" and counts and number + 1 < size:
+            behind = names[number + 1:]
+            what = ("ask", source.choice(counts)[0], source.choice((0, 1, 2, 3)), source.choice(behind),
+                    source.choice(behind))
+        places.append((name, what))
+    return (counts, places)
+
+
+def done_deeds(game, numbers, deeds, value):
+    """The counts' numbers, a dict by their names, behind the deeds."""
+    most = dict(game[0])
+    numbers = dict(numbers)
+    for deed in deeds:
+        changes = {}
+        if deed[0] == "set":
+            changes[deed[1]] = deed[2]
+        elif deed[0] == "plus":
+            changes[deed[1]] = numbers[deed[1]] + deed[2]
+        elif deed[0] == "face":
+            changes[deed[1]] = numbers[deed[1]] + value
+        elif deed[0] == "move":
+            changes[deed[2]] = numbers[deed[2]] + numbers[deed[1]]
+            changes[deed[1]] = 0
+        for name, number in changes.items():
+            numbers[name] = number if number < most[name] else most[name]
+    return numbers
+
+
+def come_to(game, name, numbers):
+    """Where asking leads: a tuple (name, tuple of the counts' numbers)."""
+    what = dict(game[1])[name]
+    if what[0] == "ask":
+        return come_to(game, what[3] if numbers[what[1]] >= what[2] else what[4], numbers)
+    return (name, tuple(numbers[count] for count, most in game[0]))
+
+
+def start_of(game):
+    return come_to(game, game[1][0][0], {name: 0 for name, most in game[0]})
+
+
+def when_holds(when, numbers):
+    return when is None or (when[0] in numbers and (numbers[when[0]] >= when[2]) == (when[1] == "from"))
+
+
+def steps_of(game, state):
+    """The ways of a state, a list of tuples (value or word, where it leads)."""
+    what = dict(game[1])[state[0]]
+    numbers = dict(zip([name for name, most in game[0]], state[1]))
+    found = []
+    if what[0] == "throw":
+        values = [weights for pool, weights in POOLS if pool == what[1]][0]
+        for value in sorted(values):
+            row, = [row for row in what[3] if value in range(row[0], row[1] + 1)]
+            found.append((value, come_to(game, row[3], done_deeds(game, numbers, row[2], value))))
+    elif what[0] == "pick":
+        for word, when, deeds, goal in what[2]:
+            if when_holds(when, numbers):
+                found.append((word, come_to(game, goal, done_deeds(game, numbers, deeds, None))))
+    return found
+
+
+def states_of(game):
+    """All states that can come, in the order in which they are found: by the least lists of ways that lead there."""
+    paths = {start_of(game): ()}
+    fresh = [start_of(game)]
+    while fresh:
+        found = {}
+        for state in fresh:
+            for way, step in enumerate(steps_of(game, state)):
+                if step[1] not in paths:
+                    found.setdefault(step[1], []).append(paths[state] + (way,))
+        # Lists of ways of one length are compared as they stand, each way being that of the place found there.
+        for state in found:
+            paths[state] = min(found[state])
+        fresh = list(found)
+    return sorted(paths, key=lambda state: (len(paths[state]), paths[state]))

@@ -31,6 +31,10 @@ FUNCTIONS = {
     "pressluck.lines": {"solved": ["rows", "right"]},
     "pressluck.worths": {"worths_of": ["board", "picks"], "visits": ["board", "picks", "start"]},
     "pressluck.best": {"best": ["board"]},
+    "pressluck.papers": {"misfits": ["board", "worths"], "slips": ["board", "worths", "picks"]},
+    "pressluck.games": {"read_game": ["text"], "show_game": ["game"]},
+    "pressluck.spread": {"spread": ["game"]},
+    "pressluck.rules": {"read_rule": ["text"], "show_rule": ["rule"], "picks_by": ["game", "rule"]},
 }
 CLASSES = {
     "pressluck.errors": [

@@ -166,9 +166,14 @@ class TestWalks(unittest.TestCase):
                     self.assertNotIn(getattr(node.value, "id", None), inner, f"{name}:{node.lineno}")
 
     def test_sets_and_keywords(self):
+        counted = [inner for name, node in nodes(ast.Call) if getattr(node.func, "id", None) in ("len", "sorted")
+                   and not node.keywords for inner in node.args]
+        places = [(inner.lineno, inner.col_offset, ast.dump(inner)) for inner in counted]
         for name, node in nodes(ast.Call):
             called = getattr(node.func, "id", None)
-            self.assertNotIn(called, ("set", "frozenset"), f"{name}:{node.lineno}")
+            self.assertNotEqual(called, "frozenset", f"{name}:{node.lineno}")
+            if called == "set":
+                self.assertIn((node.lineno, node.col_offset, ast.dump(node)), places, f"{name}:{node.lineno}")
             for keyword in node.keywords:
                 self.assertIn(keyword.arg, KEYWORDS.get(called, ()), f"{name}:{node.lineno}")
 
