@@ -263,3 +263,50 @@ def states_of(game):
             paths[state] = min(found[state])
         fresh = list(found)
     return sorted(paths, key=lambda state: (len(paths[state]), paths[state]))
+
+
+def is_answered(asked, board):
+    try:
+        asked(board)
+    except ValueError:
+        return False
+    return True
+
+
+def some_rule(source, game, rows):
+    """Rows that often fit the game's places, words and counts."""
+    picks = [(name, row[0]) for name, what in game[1] if what[0] == "pick" for row in what[2]]
+    rule = []
+    for turn in range(rows):
+        name, word = source.choice(picks) if picks and source.random() < 0.8 else source.sample(NAMES, 2)
+        if source.random() < 0.1:
+            word = source.choice(NAMES)
+        when = some_when(source, game[0])
+        rule.append((name, word, (source.choice(NAMES), "below", 999) if source.random() < 0.1 else when))
+    return rule
+
+
+def some_ending_games(source, number, spread, best):
+    """Games whose boards are sure to end and are not too great, each with its board; there is something to pick."""
+    found = []
+    while len(found) < number:
+        game = some_game(source, source.randint(0, 2), source.randint(3, 9), 3, False)
+        if is_answered(spread, game):
+            board = spread(game)[0]
+            if any(place[0] == "pick" and len(place[2]) > 1 for place in board) and is_answered(best, board):
+                found.append((game, board))
+    return found
+
+
+def turned_about(game):
+    """The game with all pays and ends' worths turned about, and the persons changed; it has no scores."""
+    places = []
+    for name, what in game[1]:
+        if what[0] == "end":
+            what = ("end", as_share(-Fraction(*what[1])))
+        elif what[0] == "throw":
+            what = ("throw", what[1], as_share(-Fraction(*what[2])), what[3])
+        elif what[0] == "pick":
+            what = ("pick", 3 - what[1], what[2])
+        places.append((name, what))
+    return (game[0], places)

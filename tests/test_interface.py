@@ -35,12 +35,24 @@ FUNCTIONS = {
     "pressluck.games": {"read_game": ["text"], "show_game": ["game"]},
     "pressluck.spread": {"spread": ["game"]},
     "pressluck.rules": {"read_rule": ["text"], "show_rule": ["rule"], "picks_by": ["game", "rule"]},
+    "pressluck.judging": {"held_board": ["board", "picks", "who"], "judged": ["game", "rule", "who"]},
+    "pressluck.alike": {"rounds": ["one", "other"], "alike": ["one", "first", "other", "second"]},
+    "pressluck.plays": {"read_play": ["game", "text"]},
 }
 CLASSES = {
     "pressluck.errors": [
         "LuckError", "NoShare", "NoTable", "NoPool", "NoEnd", "TooMany",
         "NoGame", "NoWay", "NoRule", "NoStep", "NoPlay", "NoRow",
     ],
+    "pressluck.plays": ["Play"],
+    "pressluck.desk": ["Desk"],
+}
+METHODS = {
+    ("pressluck.plays", "Play"): {
+        "__init__": ["game"], "stands": [], "points": [], "open_ways": [], "say": ["word"], "throw": ["value"], "back": [],
+        "shown": [],
+    },
+    ("pressluck.desk", "Desk"): {"__init__": [], "tell": ["row"]},
 }
 
 
@@ -60,6 +72,13 @@ class TestInterface(unittest.TestCase):
                     kind = getattr(importlib.import_module(module), name)
                     self.assertTrue(inspect.isclass(kind))
                     self.assertEqual(kind.__module__, module)
+
+    def test_methods_stand_in_their_classes_with_their_arguments(self):
+        for (module, kind), methods in METHODS.items():
+            for name, arguments in methods.items():
+                with self.subTest(module=module, kind=kind, name=name):
+                    method = getattr(getattr(importlib.import_module(module), kind), name)
+                    self.assertEqual(list(inspect.signature(method).parameters), ["self"] + arguments)
 
 
 if __name__ == "__main__":

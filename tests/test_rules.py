@@ -3,7 +3,7 @@ import random
 import re
 import unittest
 
-from boards import NAMES, some_game, some_when, when_holds
+from boards import some_game, some_rule, when_holds
 
 from pressluck.ends import ring
 from pressluck.errors import NoRule, NoWay, TooMany
@@ -54,19 +54,6 @@ def second_picks(game, rule):
                    if row == name and word in said and when_holds(when, dict(zip(counts, numbers)))]
         picks.append((fitting + [0])[0] if place[0] == "pick" else None)
     return picks
-
-
-def some_rule(source, game, rows):
-    """Rows that often fit the game's places, words and counts."""
-    picks = [(name, row[0]) for name, what in game[1] if what[0] == "pick" for row in what[2]]
-    rule = []
-    for turn in range(rows):
-        name, word = source.choice(picks) if picks and source.random() < 0.8 else source.sample(NAMES, 2)
-        if source.random() < 0.1:
-            word = source.choice(NAMES)
-        when = some_when(source, game[0])
-        rule.append((name, word, (source.choice(NAMES), "below", 999) if source.random() < 0.1 else when))
-    return rule
 
 
 class RuleCase(unittest.TestCase):

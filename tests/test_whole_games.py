@@ -4,7 +4,7 @@ import random
 import unittest
 from fractions import Fraction
 
-from boards import all_picks, as_share, ring_of, some_game
+from boards import all_picks, ring_of, some_ending_games, some_game, turned_about
 
 from pressluck.best import best
 from pressluck.ends import ring
@@ -44,35 +44,6 @@ place done score sum"""
 
 def fractions(shares):
     return [Fraction(*one) for one in shares]
-
-
-def some_ending_games(source, number):
-    """Games whose boards are sure to end and are not too great, each with its board."""
-    found = []
-    while len(found) < number:
-        game = some_game(source, source.randint(0, 2), source.randint(3, 9), 3, False)
-        try:
-            board = spread(game)[0]
-            best(board)
-        except (NoEnd, TooMany):
-            continue
-        if any(place[0] == "pick" and len(place[2]) > 1 for place in board):
-            found.append((game, board))
-    return found
-
-
-def turned_about(game):
-    """The game with all pays and ends' worths turned about, and the persons changed; it has no scores."""
-    places = []
-    for name, what in game[1]:
-        if what[0] == "end":
-            what = ("end", as_share(-Fraction(*what[1])))
-        elif what[0] == "throw":
-            what = ("throw", what[1], as_share(-Fraction(*what[2])), what[3])
-        elif what[0] == "pick":
-            what = ("pick", 3 - what[1], what[2])
-        places.append((name, what))
-    return (game[0], places)
 
 
 class TestNamed(unittest.TestCase):
@@ -121,7 +92,7 @@ class TestNamed(unittest.TestCase):
 class TestMany(unittest.TestCase):
     def test_just_one_list_of_worths_fits_and_is_told(self):
         source = random.Random(241)
-        for game, board in some_ending_games(source, 60):
+        for game, board in some_ending_games(source, 60, spread, best):
             self.assertEqual(spread(read_game(show_game(game)))[0], board)
             worths, picks = best(board)
             self.assertEqual(misfits(board, worths), [])
@@ -131,7 +102,7 @@ class TestMany(unittest.TestCase):
     def test_no_other_way_of_one_brings_more(self):
         source = random.Random(242)
         tried = 0
-        for game, board in some_ending_games(source, 150):
+        for game, board in some_ending_games(source, 150, spread, best):
             worths, picks = best(board)
             for who, sign in ((1, 1), (2, -1)):
                 others = all_picks(board, (who,), picks)
@@ -143,7 +114,7 @@ class TestMany(unittest.TestCase):
 
     def test_what_a_way_is_worth_and_what_it_lacks(self):
         source = random.Random(243)
-        for game, board in some_ending_games(source, 40):
+        for game, board in some_ending_games(source, 40, spread, best):
             worths = best(board)[0]
             picks = [source.randrange(len(place[2])) if place[0] == "pick" else None for place in board]
             under = fractions(worths_of(board, picks))
@@ -171,7 +142,7 @@ class TestMany(unittest.TestCase):
     def test_a_game_turned_about_has_its_worths_turned_about(self):
         source = random.Random(245)
         tried = 0
-        for game, board in some_ending_games(source, 80):
+        for game, board in some_ending_games(source, 80, spread, best):
             if not any(what[0] == "score" for name, what in game[1]):
                 tried += 1
                 worths, picks = best(board)
