@@ -203,6 +203,24 @@ class TestNames(unittest.TestCase):
             if isinstance(node.func, ast.Attribute):
                 self.assertIn(node.func.attr, METHODS + DUNDERS + own, f"{name}:{node.lineno}")
 
+    def test_no_name_is_a_method_in_one_class_and_a_value_in_another(self):
+        methods = [inner.name for name, node in nodes(ast.ClassDef) for inner in node.body
+                   if isinstance(inner, ast.FunctionDef) and inner.name not in DUNDERS]
+        values = [node.attr for name, node in nodes(ast.Attribute) if isinstance(node.ctx, ast.Store)]
+        self.assertEqual(set(methods) & set(values), set())
+        taken = {name for kind in (str, int, list, tuple, dict, set, bytes) for name in dir(kind)}
+        self.assertEqual(set(methods) & taken - set(METHODS) - {"add", "discard"}, set())
+        self.assertEqual(set(values) & taken, set())
+
+    def test_errors_are_made_on_the_spot_and_taken_by_the_programs_own_names(self):
+        own = [node.name for name, node in nodes(ast.ClassDef)]
+        for name, node in nodes(ast.Raise):
+            self.assertIsInstance(node.exc, ast.Call, f"{name}:{node.lineno}")
+            self.assertIn(node.exc.func.id, own, f"{name}:{node.lineno}")
+        for name, node in nodes(ast.ExceptHandler):
+            for kind in node.type.elts if isinstance(node.type, ast.Tuple) else [node.type]:
+                self.assertIn(kind.id, own, f"{name}:{node.lineno}")
+
     def test_each_name_of_a_top_stands_once_and_is_no_parameter_elsewhere(self):
         for name, tree in trees():
             tops = top_names(tree)

@@ -4,7 +4,7 @@ import random
 import unittest
 from fractions import Fraction
 
-from boards import all_picks, ring_of, some_ending_games, some_game, turned_about
+from boards import all_picks, is_answered, ring_of, some_ending_games, some_game, turned_about
 
 from pressluck.best import best
 from pressluck.ends import ring
@@ -44,6 +44,27 @@ place done score sum"""
 
 def fractions(shares):
     return [Fraction(*one) for one in shares]
+
+
+def with_memory(board, picks, who):
+    """The board of pairs of a place and a thing remembered, 0 or 1; the other person keeps to the picks.
+
+    At a throw the way taken is remembered or forgotten; at an own pick the person also chooses what to remember.
+    """
+    size = len(board)
+    told = []
+    for memory in (0, 1):
+        for number, place in enumerate(board):
+            if place[0] == "throw":
+                ways = [(weight, to + size * ((memory + way) % 2)) for way, (weight, to) in enumerate(place[2])]
+                told.append(("throw", place[1], ways))
+            elif place[0] == "pick" and place[1] == who:
+                told.append(("pick", who, [to + size * kept for to in place[2] for kept in (0, 1)]))
+            elif place[0] == "pick":
+                told.append(("pick", place[1], [place[2][picks[number]] + size * memory]))
+            else:
+                told.append(place)
+    return told
 
 
 class TestNamed(unittest.TestCase):
@@ -111,6 +132,18 @@ class TestMany(unittest.TestCase):
                     for brought, worth in zip(fractions(worths_of(board, other)), fractions(worths)):
                         self.assertLessEqual(sign * brought, sign * worth)
         self.assertGreater(tried, 500)
+
+    def test_no_other_way_of_one_brings_more_though_something_is_remembered(self):
+        source = random.Random(246)
+        tried = 0
+        for game, board in some_ending_games(source, 150, spread, best):
+            worths, picks = best(board)
+            for who in (1, 2):
+                greater = with_memory(board, picks, who)
+                if is_answered(best, greater):
+                    tried += 1
+                    self.assertEqual(best(greater)[0], worths * 2)
+        self.assertGreater(tried, 100)
 
     def test_what_a_way_is_worth_and_what_it_lacks(self):
         source = random.Random(243)
