@@ -7,6 +7,17 @@ from fractions import Fraction
 NAMES = """go if from end place set plus face move way count throw pick ask score pay to else below of best worst hits
 again burst d a z ok none rule game say back play points worth even ring good worse abcdefgh zzzzzzzz turn bank keep
 roll""".split()
+# A game: person 1 throws a coin until it comes to 2, or keeps what there is.
+COIN = """count sum 2
+place at ask sum from 2 go won else choose
+place choose pick 1
+way more go cast
+way keep if sum from 1 go won
+place cast throw d2 pay 1/3
+from 1 to 1 set sum 0 go lost
+from 2 to 2 plus sum 1 go at
+place lost end -1
+place won score sum"""
 # Each pool with its values and their weights, reckoned by hand.
 POOLS = [
     ([("number", 3)], {3: 1}),

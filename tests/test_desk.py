@@ -2,7 +2,7 @@ import random
 import unittest
 from fractions import Fraction
 
-from boards import some_ending_games, some_game, some_rule, steps_of
+from boards import COIN, some_ending_games, some_game, some_rule, steps_of
 
 from pressluck.best import best
 from pressluck.desk import Desk
@@ -15,16 +15,6 @@ from pressluck.rules import show_rule
 from pressluck.shares import show_share
 from pressluck.spread import spread
 
-COIN = """count sum 2
-place at ask sum from 2 go won else choose
-place choose pick 1
-way more go cast
-way keep if sum from 1 go won
-place cast throw d2 pay 1/3
-from 1 to 1 set sum 0 go lost
-from 2 to 2 plus sum 1 go at
-place lost end -1
-place won score sum"""
 OTHER = "place x pick 2\nway none go y\nway low go z\nplace y end 3/2\nplace z end -1"
 # The pick can stay for ever; the throw ahead of it and the end can't.
 RINGED = """count c 1

@@ -3,7 +3,7 @@ import random
 import unittest
 from fractions import Fraction
 
-from boards import all_picks, as_share, ring_of, some_board, some_ending_games, some_picks, some_rule, turned_about
+from boards import COIN, all_picks, as_share, ring_of, some_board, some_ending_games, some_picks, some_rule, turned_about
 
 from pressluck.best import best
 from pressluck.errors import NoEnd, NoWay, TooMany
@@ -15,16 +15,6 @@ from pressluck.spread import spread
 from pressluck.worths import visits, worths_of
 
 END = ("end", (0, 1))
-COIN = """count sum 2
-place at ask sum from 2 go won else choose
-place choose pick 1
-way more go cast
-way keep if sum from 1 go won
-place cast throw d2 pay 1/3
-from 1 to 1 set sum 0 go lost
-from 2 to 2 plus sum 1 go at
-place lost end -1
-place won score sum"""
 # Place 1 is y, place 2 is z: each loses by its way bad.
 FORKED = """place x pick {who}
 way up go y

@@ -3,7 +3,7 @@ import random
 import unittest
 from fractions import Fraction
 
-from boards import POOLS, as_share, some_ending_games, some_game, start_of, steps_of
+from boards import COIN, POOLS, as_share, some_ending_games, some_game, start_of, steps_of
 
 from pressluck.best import best
 from pressluck.errors import NoPlay, NoStep, TooMany
@@ -12,16 +12,6 @@ from pressluck.papers import slips
 from pressluck.plays import Play, read_play
 from pressluck.spread import spread
 
-COIN = """count sum 2
-place at ask sum from 2 go won else choose
-place choose pick 1
-way more go cast
-way keep if sum from 1 go won
-place cast throw d2 pay 1/3
-from 1 to 1 set sum 0 go lost
-from 2 to 2 plus sum 1 go at
-place lost end -1
-place won score sum"""
 # A throw of the values 1, 2, 4, 5 and 6, and a pick back to it.
 ROUND = """count c 9
 count d 3

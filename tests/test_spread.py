@@ -4,24 +4,13 @@ import random
 import unittest
 from fractions import Fraction
 
-from boards import POOLS, some_game, start_of, states_of, steps_of
+from boards import COIN, POOLS, some_game, states_of, steps_of
 
 from pressluck.errors import NoWay, TooMany
 from pressluck.games import read_game
 from pressluck.parts import reached
 from pressluck.spread import spread
 
-# Person 1 throws a coin until it comes to 2, or keeps what there is.
-COIN = """count sum 2
-place at ask sum from 2 go won else choose
-place choose pick 1
-way more go cast
-way keep if sum from 1 go won
-place cast throw d2 pay 1/3
-from 1 to 1 set sum 0 go lost
-from 2 to 2 plus sum 1 go at
-place lost end -1
-place won score sum"""
 COIN_BOARD = [("pick", 1, [1]), ("throw", (1, 3), [(1, 2), (1, 3)]), ("end", (-1, 1)), ("pick", 1, [4, 5]),
               ("throw", (1, 3), [(1, 2), (1, 6)]), ("end", (1, 1)), ("end", (2, 1))]
 COIN_STATES = [("choose", [0]), ("cast", [0]), ("lost", [0]), ("choose", [1]), ("cast", [1]), ("won", [1]), ("won", [2])]
